@@ -1,0 +1,1 @@
+"""Restfold: clocks that come together."""
