@@ -36,11 +36,16 @@ def need_turn(thing):
         raise BadTurn("a turn is a whole number")
 
 
+def hour_at(clock, turn):
+    """The hour that the clock shows at the turn; nothing is refused here."""
+    return turn % clock[0]
+
+
 def shows(clock, turn):
     """The hour that the clock shows at the turn."""
     need_clock(clock)
     need_turn(turn)
-    return turn % clock[0]
+    return hour_at(clock, turn)
 
 
 def is_right(clock, turn):

@@ -8,20 +8,10 @@ from math import gcd, lcm
 from restfold import clocks
 from restfold.clocks import agree, both, is_clock, is_right, shows, witness
 from restfold.errors import BadClock, BadTurn, FoldError
+from refusing import Refusing
 from things import WIDE, good_clocks, no_clocks, no_numbers, small_clocks
 
 TURNS = [0, 1, 2, 11, 12, 13, 59, 60, 1000, WIDE - 1, WIDE, WIDE + 1, 10 ** 90 + 7, 7 ** 700]
-
-
-class Refusing(unittest.TestCase):
-    def refused(self, kind, ask, *args):
-        """Check that just this kind is raised; things that can't be shown are told by their place."""
-        try:
-            ask(*args)
-        except FoldError as error:
-            self.assertIs(type(error), kind)
-        else:
-            self.fail(f"{ask.__name__} raised no {kind.__name__}")
 
 
 class Interface(unittest.TestCase):

@@ -1,5 +1,9 @@
 """What the tests hand in: good clocks and turns, and things that are none."""
 
+from unittest import mock
+
+from restfold.walls import Wall
+
 WIDE = 10 ** 30
 
 
@@ -53,6 +57,24 @@ def no_clocks():
     as_hour = [(12, thing) for thing in no_numbers()]
     as_both = [(thing, thing) for thing in no_numbers()]
     return plain + hours + hour + as_hours + as_hour + as_both
+
+
+def no_walls():
+    """Things of many kinds, no wall among them."""
+    return [
+        True, False, None, 0, 1, 12, WIDE, "", "given 0", "clock 1 12 3\ngiven 1", b"given 0", [], [(1, (12, 3))],
+        (), (12, 3), (1, (12, 3)), {}, {1: (12, 3)}, {12, 3}, frozenset(), object(), Wall, Wall.clocks, len,
+        NotImplemented, ..., ValueError("1"), Like(), Sly(Wall), Sly(tuple), mock.Mock(spec=Wall),
+    ]
+
+
+def no_texts():
+    """Things of many kinds, no text among them."""
+    return [
+        None, 0, 1, 12, True, False, b"given 0", bytearray(b"given 0"), [], ["given 0"], (), ("given 0",), {},
+        {"given 0": 0}, {"given 0"}, frozenset(), object(), str, len, NotImplemented, ..., Wall(), Like(), Sly(str),
+        Sly(int), iter(["given 0"]),
+    ]
 
 
 def good_clocks():
